@@ -1,0 +1,1 @@
+"""Markedties: trees whose ties all differ."""

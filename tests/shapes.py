@@ -1,5 +1,8 @@
 """Trees and good marks that the tests share, each written from its own plain rule."""
 
+from functools import cache
+from itertools import permutations
+
 from markedties.trees import Tree
 
 BRANCHED = [(0, 4), (1, 4), (2, 3), (2, 5), (3, 4)]
@@ -50,3 +53,77 @@ def wrong_marks(many):
         wrong.append(("the last twice", right[1:] + [right[-1]]))
         wrong.append(("all nought", [0] * many))
     return wrong
+
+
+def near_lists(tree):
+    """For each place the places tied to it, read from the ties alone."""
+    near = [[] for place in range(tree.many)]
+    for low, high in tree.ties:
+        near[low].append(high)
+        near[high].append(low)
+    return near
+
+
+def hung(near, place, above):
+    """The form of what hangs below a place, the same whatever the numbers of the places."""
+    return tuple(sorted(hung(near, below, place) for below in near[place] if below != above))
+
+
+def form(tree):
+    near = near_lists(tree)
+    return min(hung(near, place, None) for place in range(tree.many))
+
+
+@cache
+def shape_ties(many):
+    if many == 1:
+        return [[]]
+    found = {}
+    for ties in shape_ties(many - 1):
+        for place in range(many - 1):
+            tree = Tree(many, sorted(ties + [(place, many - 1)]))
+            found.setdefault(form(tree), tree.ties)
+    return list(found.values())
+
+
+def shapes(many):
+    """One tree of each shape of so many places."""
+    return [Tree(many, ties) for ties in shape_ties(many)]
+
+
+def renumbered(tree, names):
+    """The tree with names[place] in the place of each place."""
+    ties = [tuple(sorted((names[low], names[high]))) for low, high in tree.ties]
+    return Tree(tree.many, sorted(ties))
+
+
+def numberings(many):
+    """A few ways to number so many places: as they are, backwards, and mixed."""
+    mixed = sorted(range(many), key=lambda place: (place * 5 + 3) % 13)
+    return [list(range(many)), list(range(many))[::-1], mixed]
+
+
+def trees(many):
+    """Trees of all shapes of so many places, each numbered in a few ways."""
+    return [renumbered(tree, names) for tree in shapes(many) for names in numberings(many)]
+
+
+def plainly_good(tree, marks):
+    unlike = {abs(marks[low] - marks[high]) for low, high in tree.ties}
+    return sorted(marks) == list(range(tree.many)) and unlike == set(range(1, tree.many))
+
+
+def plain_markings(tree):
+    """All good marks, by looking at every order of the numbers."""
+    return [list(marks) for marks in permutations(range(tree.many)) if plainly_good(tree, marks)]
+
+
+def plain_bounds(tree, marks):
+    """Each number that has one place of each tie up to it and one above it."""
+    return [number for number in range(tree.many)
+            if all((marks[low] <= number) != (marks[high] <= number) for low, high in tree.ties)]
+
+
+def handed(tree):
+    """What a tree holds, to be held against what it holds later."""
+    return (tree.many, list(tree.ties))

@@ -1,10 +1,12 @@
-"""Trees and good marks that the tests share, each written from its own plain rule."""
+"""What the tests share: trees and good marks, each written from its own plain rule, and the look at a refusal."""
 
 from functools import cache
 from itertools import permutations
 
+from markedties.errors import BadMarks, BadTree, NoBound, NoComb, NotGood, TieError
 from markedties.trees import Tree
 
+REFUSALS = [BadTree, BadMarks, NotGood, NoBound, NoComb]
 BRANCHED = [(0, 4), (1, 4), (2, 3), (2, 5), (3, 4)]
 
 
@@ -127,3 +129,12 @@ def plain_bounds(tree, marks):
 def handed(tree):
     """What a tree holds, to be held against what it holds later."""
     return (tree.many, list(tree.ties))
+
+
+def check_refusal(case, refusal, ask, *handed_in):
+    """It is a TieError and a ValueError, of its own class and of none of the other four."""
+    with case.assertRaises(TieError) as caught:
+        ask(*handed_in)
+    case.assertIsInstance(caught.exception, ValueError)
+    met = [one for one in REFUSALS if isinstance(caught.exception, one)]
+    case.assertEqual(met, [refusal])

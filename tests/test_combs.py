@@ -4,8 +4,8 @@ from markedties.combs import comb_marks, is_comb
 from markedties.errors import NoComb
 from markedties.marks import bound, is_good
 from markedties.trees import Tree
-from tests.refusals import check_refusal
-from tests.shapes import BRANCHED, handed, near_lists, plain_bounds, plainly_good, renumbered, row, spider, star, trees
+from tests.shapes import BRANCHED, check_refusal, handed, near_lists, plain_bounds, plainly_good, renumbered
+from tests.shapes import row, spider, star, trees
 
 # How many shapes of combs there are of 1, 2, 3 places and so on, and how many shapes of trees.
 COMB_SHAPES = [1, 1, 1, 2, 3, 6, 10, 20, 36, 72, 136, 272]

@@ -6,8 +6,7 @@ from markedties.joins import joined
 from markedties.marks import bound, differences, is_good, turned
 from markedties.rings import copies
 from markedties.trees import Tree
-from tests.refusals import REFUSALS, check_refusal
-from tests.shapes import row, spider
+from tests.shapes import REFUSALS, check_refusal, row, spider
 
 
 class ErrorsTest(unittest.TestCase):

@@ -5,9 +5,8 @@ from markedties.joins import joined
 from markedties.marks import bound, is_good
 from markedties.search import markings
 from markedties.trees import Tree
-from tests.refusals import check_refusal
-from tests.shapes import handed, plain_bounds, plain_markings, plainly_good, row, row_marks, spider, star, trees
-from tests.shapes import wrong_marks
+from tests.shapes import check_refusal, handed, plain_bounds, plain_markings, plainly_good
+from tests.shapes import row, row_marks, spider, star, trees, wrong_marks
 
 SPIDER_MARKS = [0, 1, 4, 5, 3, 6, 2]
 NO_BOUND = [1, 2, 4, 0, 3]

@@ -8,8 +8,7 @@ from markedties.marks import turned
 from markedties.rings import copies
 from markedties.search import first_marking, markings
 from markedties.trees import Tree
-from tests.refusals import check_refusal
-from tests.shapes import handed, row, row_marks, shapes, spider, star, wrong_marks
+from tests.shapes import check_refusal, handed, row, row_marks, shapes, spider, star, wrong_marks
 
 SPIDER_MARKS = [0, 1, 4, 5, 3, 6, 2]
 
